@@ -1,0 +1,74 @@
+package hush_test
+
+import "hush/api"
+
+// doc: the parameters of the document's examples.
+var doc = api.Params{N: 4, T: 17, Q: 1000003, B: 4}
+
+const (
+	leastInt    = -1 << 63
+	greatestInt = 1<<63 - 1
+)
+
+// numbers: a text of numbers, two bytes each.
+func numbers(l ...int) string {
+	var s []byte
+	for _, v := range l {
+		s = append(s, byte(v>>8), byte(v))
+	}
+	return string(s)
+}
+
+// primes: the primes up to a limit, by Eratosthenes' sieve.
+func primes(limit int) []int {
+	crossed := make([]bool, limit+1)
+	var l []int
+	for n := 2; n <= limit; n++ {
+		if crossed[n] {
+			continue
+		}
+		l = append(l, n)
+		for m := 2 * n; m <= limit; m += n {
+			crossed[m] = true
+		}
+	}
+	return l
+}
+
+// allGood: parameters with every N and every T that go together.
+func allGood() []api.Params {
+	var l []api.Params
+	for _, n := range []int{4, 8, 16} {
+		for _, t := range primes(1021) {
+			if t%(2*n) == 1 {
+				l = append(l, api.Params{N: n, T: t, Q: 1<<30 - 1, B: 8})
+			}
+		}
+	}
+	return l
+}
+
+// notGood: parameters each of which is wrong in one way.
+func notGood() []api.Params {
+	return []api.Params{
+		{},
+		{N: 5, T: 17, Q: 1000003, B: 4},
+		{N: 32, T: 193, Q: 1 << 29, B: 4},
+		{N: -4, T: 17, Q: 1000003, B: 4},
+		{N: leastInt, T: 17, Q: 1000003, B: 4},
+		{N: greatestInt, T: 17, Q: 1000003, B: 4},
+		{N: 8, T: 19, Q: 1000003, B: 4},
+		{N: 4, T: 25, Q: 1000003, B: 4},
+		{N: 4, T: 0, Q: 1000003, B: 4},
+		{N: 4, T: leastInt, Q: 1000003, B: 4},
+		{N: 4, T: greatestInt, Q: 1000003, B: 4},
+		{N: 4, T: 17, Q: 300, B: 4},
+		{N: 4, T: 17, Q: 0, B: 4},
+		{N: 4, T: 17, Q: leastInt, B: 4},
+		{N: 4, T: 17, Q: greatestInt, B: 4},
+		{N: 4, T: 17, Q: 1000003, B: 0},
+		{N: 4, T: 17, Q: 1000003, B: 9},
+		{N: 4, T: 17, Q: 1000003, B: leastInt},
+		{N: 4, T: 17, Q: 1000003, B: greatestInt},
+	}
+}

@@ -1,0 +1,108 @@
+// Package hush: small nets over numbers that stay hidden: see DOC.md.
+package hush
+
+import (
+	"hush/api"
+	"hush/keys"
+	"hush/param"
+	"hush/slot"
+	"hush/text"
+)
+
+// Session is a net that two parties work out together.
+type Session struct{}
+
+// Check tells whether parameters are good (P2).
+func Check(p api.Params) api.Errno {
+	if !param.Good(p) {
+		return api.ErrParam
+	}
+	return api.OK
+}
+
+// Decode gives the slots of a polynomial (P3).
+func Decode(p api.Params, poly string) (string, api.Errno) {
+	if !param.Good(p) {
+		return "", api.ErrParam
+	}
+	coefficients, ok := text.Numbers(poly, p.N, p.T)
+	if !ok {
+		return "", api.ErrValue
+	}
+	slots := slot.Decode(p, coefficients)
+	return text.Write(slots), api.OK
+}
+
+// Encode gives the polynomial with some slots (P3).
+func Encode(p api.Params, values string) (string, api.Errno) {
+	if !param.Good(p) {
+		return "", api.ErrParam
+	}
+	slots, ok := text.Numbers(values, p.N, p.T)
+	if !ok {
+		return "", api.ErrValue
+	}
+	coefficients := slot.Encode(p, slots)
+	return text.Write(coefficients), api.OK
+}
+
+// Key makes a key (P4).
+func Key(p api.Params, draws string) (string, api.Errno) {
+	if !param.Good(p) {
+		return "", api.ErrParam
+	}
+	return keys.Make(p.N, draws), api.OK
+}
+
+// Encrypt hides values (P5).
+func Encrypt(p api.Params, key string, values string, draws string) (string, api.Errno) {
+	return "", Check(p)
+}
+
+// Decrypt opens a ciphertext (P6).
+func Decrypt(p api.Params, key string, c string) (string, api.Errno) { return "", Check(p) }
+
+// Bound tells a ciphertext's bound (P6).
+func Bound(p api.Params, c string) (int, api.Errno) { return 0, Check(p) }
+
+// Add adds two ciphertexts (P7).
+func Add(p api.Params, a string, b string) (string, api.Errno) { return "", Check(p) }
+
+// AddPlain adds values to a ciphertext (P7).
+func AddPlain(p api.Params, c string, values string) (string, api.Errno) { return "", Check(p) }
+
+// MulPlain multiplies a ciphertext by values (P8).
+func MulPlain(p api.Params, c string, values string) (string, api.Errno) { return "", Check(p) }
+
+// TurnKey makes a turning key (P9).
+func TurnKey(p api.Params, key string, draws string) (string, api.Errno) { return "", Check(p) }
+
+// Turn turns the slots of a ciphertext (P9).
+func Turn(p api.Params, c string, turn string) (string, api.Errno) { return "", Check(p) }
+
+// Linear works out the first part of a layer, hidden (P10).
+func Linear(p api.Params, layer string, c string, share string, mask string, turn string) (string, api.Errno) {
+	return "", Check(p)
+}
+
+// Bend works out the second part of a layer, on shares (P11).
+func Bend(p api.Params, layer string, a string, b string, mask string) (string, api.Errno) {
+	return "", Check(p)
+}
+
+// Plain works out a net in the open (P12).
+func Plain(p api.Params, net string, input string) (string, api.Errno) { return "", Check(p) }
+
+// New begins a session (P13).
+func New(p api.Params, net string, key string, turn string, input string) (*Session, api.Errno) {
+	return nil, Check(p)
+}
+
+// Step takes the next step of a session (P14).
+func (x *Session) Step(draws string) (string, api.Errno) { return "", api.OK }
+
+// Shares tells both shares, the client's first (P13).
+func (x *Session) Shares() (string, string) { return "", "" }
+
+// Output tells what has come out (P13).
+func (x *Session) Output() (string, api.Errno) { return "", api.OK }
