@@ -19,6 +19,50 @@ func numbers(l ...int) string {
 	return string(s)
 }
 
+// long: a text of numbers, four bytes each.
+func long(l ...int) string {
+	s := ""
+	for _, v := range l {
+		s += numbers(v>>16, v&65535)
+	}
+	return s
+}
+
+// hidden: a ciphertext as bytes.
+func hidden(bound int, c ...int) string {
+	return "C" + string([]byte{byte(bound >> 32)}) + long(bound) + long(c...)
+}
+
+// empty: a ciphertext with this bound, all else 0.
+func empty(p api.Params, bound int) string {
+	return hidden(bound, make([]int, 2*p.N)...)
+}
+
+// mixedParams: parameters of all kinds: R is 0 or T - 1, Q as small or as great
+// as can be, each N.
+func mixedParams() []api.Params {
+	return []api.Params{
+		doc,
+		{N: 4, T: 17, Q: 85, B: 1},
+		{N: 4, T: 17, Q: 400, B: 4},
+		{N: 4, T: 17, Q: 17*60000 + 16, B: 2},
+		{N: 4, T: 1009, Q: 1<<30 - 1, B: 8},
+		{N: 8, T: 17, Q: 17 << 20, B: 3},
+		{N: 8, T: 1009, Q: 1009*1064163 + 1008, B: 8},
+		{N: 16, T: 97, Q: 1 << 29, B: 1},
+		{N: 16, T: 929, Q: 1<<30 - 1, B: 5},
+	}
+}
+
+// greatest: the greatest bound that fits, by trying them down from Q.
+func greatest(p api.Params) int {
+	bound := p.Q/2/p.T + 1
+	for 2*(p.T*bound+p.Q%p.T*(p.T-1)) >= p.Q {
+		bound--
+	}
+	return bound
+}
+
 // primes: the primes up to a limit, by Eratosthenes' sieve.
 func primes(limit int) []int {
 	crossed := make([]bool, limit+1)

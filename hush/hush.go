@@ -3,10 +3,10 @@ package hush
 
 import (
 	"hush/api"
+	"hush/cipher"
 	"hush/keys"
 	"hush/param"
 	"hush/slot"
-	"hush/text"
 )
 
 // Session is a net that two parties work out together.
@@ -25,12 +25,12 @@ func Decode(p api.Params, poly string) (string, api.Errno) {
 	if !param.Good(p) {
 		return "", api.ErrParam
 	}
-	coefficients, ok := text.Numbers(poly, p.N, p.T)
+	coefficients, ok := readValues(p, poly)
 	if !ok {
 		return "", api.ErrValue
 	}
 	slots := slot.Decode(p, coefficients)
-	return text.Write(slots), api.OK
+	return writeValues(slots), api.OK
 }
 
 // Encode gives the polynomial with some slots (P3).
@@ -38,12 +38,12 @@ func Encode(p api.Params, values string) (string, api.Errno) {
 	if !param.Good(p) {
 		return "", api.ErrParam
 	}
-	slots, ok := text.Numbers(values, p.N, p.T)
+	slots, ok := readValues(p, values)
 	if !ok {
 		return "", api.ErrValue
 	}
 	coefficients := slot.Encode(p, slots)
-	return text.Write(coefficients), api.OK
+	return writeValues(coefficients), api.OK
 }
 
 // Key makes a key (P4).
@@ -56,23 +56,86 @@ func Key(p api.Params, draws string) (string, api.Errno) {
 
 // Encrypt hides values (P5).
 func Encrypt(p api.Params, key string, values string, draws string) (string, api.Errno) {
-	return "", Check(p)
+	if !param.Good(p) {
+		return "", api.ErrParam
+	}
+	s, ok := keys.Read(p.N, key)
+	if !ok {
+		return "", api.ErrForm
+	}
+	slots, ok := readValues(p, values)
+	if !ok {
+		return "", api.ErrValue
+	}
+	hidden := cipher.Encrypt(p, s, slots, draws)
+	return cipher.Write(hidden), api.OK
 }
 
 // Decrypt opens a ciphertext (P6).
-func Decrypt(p api.Params, key string, c string) (string, api.Errno) { return "", Check(p) }
+func Decrypt(p api.Params, key string, c string) (string, api.Errno) {
+	if !param.Good(p) {
+		return "", api.ErrParam
+	}
+	s, ok := keys.Read(p.N, key)
+	if !ok {
+		return "", api.ErrForm
+	}
+	hidden, ok := cipher.Read(p, c)
+	if !ok {
+		return "", api.ErrForm
+	}
+	slots := cipher.Decrypt(p, s, hidden)
+	return writeValues(slots), api.OK
+}
 
 // Bound tells a ciphertext's bound (P6).
-func Bound(p api.Params, c string) (int, api.Errno) { return 0, Check(p) }
+func Bound(p api.Params, c string) (int, api.Errno) {
+	if !param.Good(p) {
+		return 0, api.ErrParam
+	}
+	hidden, ok := cipher.Read(p, c)
+	if !ok {
+		return 0, api.ErrForm
+	}
+	return hidden.Bound, api.OK
+}
 
 // Add adds two ciphertexts (P7).
-func Add(p api.Params, a string, b string) (string, api.Errno) { return "", Check(p) }
+func Add(p api.Params, a string, b string) (string, api.Errno) {
+	if !param.Good(p) {
+		return "", api.ErrParam
+	}
+	first, ok := cipher.Read(p, a)
+	if !ok {
+		return "", api.ErrForm
+	}
+	second, ok := cipher.Read(p, b)
+	if !ok {
+		return "", api.ErrForm
+	}
+	sum, fits := cipher.Add(p, first, second)
+	return writeCipher(sum, fits)
+}
 
 // AddPlain adds values to a ciphertext (P7).
-func AddPlain(p api.Params, c string, values string) (string, api.Errno) { return "", Check(p) }
+func AddPlain(p api.Params, c string, values string) (string, api.Errno) {
+	hidden, slots, errno := readBoth(p, c, values)
+	if errno != api.OK {
+		return "", errno
+	}
+	sum, fits := cipher.AddPlain(p, hidden, slots)
+	return writeCipher(sum, fits)
+}
 
 // MulPlain multiplies a ciphertext by values (P8).
-func MulPlain(p api.Params, c string, values string) (string, api.Errno) { return "", Check(p) }
+func MulPlain(p api.Params, c string, values string) (string, api.Errno) {
+	hidden, slots, errno := readBoth(p, c, values)
+	if errno != api.OK {
+		return "", errno
+	}
+	product, fits := cipher.MulPlain(p, hidden, slots)
+	return writeCipher(product, fits)
+}
 
 // TurnKey makes a turning key (P9).
 func TurnKey(p api.Params, key string, draws string) (string, api.Errno) { return "", Check(p) }

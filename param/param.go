@@ -1,4 +1,5 @@
-// Package param tells which parameters are good, and which bounds fit them.
+// Package param tells which parameters are good, what follows from them, and
+// which bounds fit them.
 package param
 
 import "hush/api"
@@ -27,8 +28,23 @@ func Fits(p api.Params, bound int) bool {
 	if p.T < 1 || bound >= p.Q {
 		return false
 	}
-	r := p.Q % p.T
-	return 2*(p.T*bound+r*(p.T-1)) < p.Q
+	return 2*(p.T*bound+Rest(p)*(p.T-1)) < p.Q
+}
+
+// Rest is R, what Q leaves by T.
+func Rest(p api.Params) int {
+	if p.T < 1 {
+		return 0
+	}
+	return p.Q % p.T
+}
+
+// Delta is how many times T goes into Q.
+func Delta(p api.Params) int {
+	if p.T < 1 {
+		return 0
+	}
+	return p.Q / p.T
 }
 
 // isPrime compares d with n/d, as d*d could overflow.

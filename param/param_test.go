@@ -42,3 +42,14 @@ func TestIsPrime(t *testing.T) {
 		}
 	}
 }
+
+func TestRestAndDelta(t *testing.T) {
+	for _, c := range []struct{ t, q, rest, delta int }{
+		{17, 1000003, 12, 58823}, {17, 400, 9, 23}, {17, 85, 0, 5}, {1009, 1<<30 - 1, 1<<30%1009 - 1, 1 << 30 / 1009}, {0, 7, 0, 0},
+	} {
+		p := api.Params{N: 4, T: c.t, Q: c.q, B: 4}
+		if rest, delta := Rest(p), Delta(p); rest != c.rest || delta != c.delta {
+			t.Errorf("T %d, Q %d: %d, %d, want %d, %d", c.t, c.q, rest, delta, c.rest, c.delta)
+		}
+	}
+}

@@ -1,16 +1,16 @@
 // Package text reads and writes the numbers that texts are made of.
 package text
 
-// Numbers reads a text of just count numbers, two bytes each and all below
-// limit; it answers false if the text is anything else.
-func Numbers(s string, count int, limit int) ([]int, bool) {
+// Numbers reads a text of just count numbers, of width bytes each and all
+// below limit; it answers false if the text is anything else.
+func Numbers(s string, width int, count int, limit int) ([]int, bool) {
 	// The length comes first: a text may be of any length.
-	if count < 0 || len(s)%2 != 0 || len(s)/2 != count {
+	if width < 1 || len(s)%width != 0 || len(s)/width != count {
 		return nil, false
 	}
 	var list []int
-	for i := 0; i+1 < len(s); i += 2 {
-		v := int(s[i])<<8 | int(s[i+1])
+	for i := 0; i <= len(s)-width; i += width {
+		v := Number(s[i : i+width])
 		if v >= limit {
 			return nil, false
 		}
@@ -19,20 +19,23 @@ func Numbers(s string, count int, limit int) ([]int, bool) {
 	return list, true
 }
 
-// Write is the text of numbers, two bytes each.
-func Write(list []int) string {
-	var out []byte
-	for _, v := range list {
-		out = append(out, byte(v>>8))
-		out = append(out, byte(v))
+// Number is what the bytes of a text are as one number, that of the greatest
+// weight first. The texts that are handed in are short enough for an int.
+func Number(s string) int {
+	v := 0
+	for i := 0; i < len(s); i++ {
+		v = v<<8 | int(s[i])
 	}
-	return string(out)
+	return v
 }
 
-// Drawn is the i-th byte of the draws; behind their end there are noughts.
-func Drawn(draws string, i int) int {
-	if i < 0 || i >= len(draws) {
-		return 0
+// Write is the text of numbers, of width bytes each.
+func Write(list []int, width int) string {
+	var out []byte
+	for _, v := range list {
+		for i := width - 1; i >= 0; i-- {
+			out = append(out, byte(v>>(8*i)))
+		}
 	}
-	return int(draws[i])
+	return string(out)
 }

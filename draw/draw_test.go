@@ -1,0 +1,42 @@
+package draw
+
+import (
+	"slices"
+	"strings"
+	"testing"
+
+	"hush/api"
+)
+
+func TestByte(t *testing.T) {
+	for i, want := range []int{7, 255, 0, 0} {
+		if d := Byte("\x07\xff", i); d != want {
+			t.Errorf("byte %d is %d", i, d)
+		}
+	}
+	for _, i := range []int{-1, -1 << 63, 1<<63 - 1} {
+		if d := Byte("\x07\xff", i); d != 0 {
+			t.Errorf("byte %d is %d", i, d)
+		}
+	}
+}
+
+func TestPair(t *testing.T) {
+	p := api.Params{N: 4, T: 17, Q: 1000003, B: 4}
+	for _, c := range []struct {
+		draws string
+		a, e  []int
+	}{
+		{"", []int{0, 0, 0, 0}, []int{-2, -2, -2, -2}},
+		// The draws end inside of a number: noughts are its last bytes.
+		{"\x00\x00\x00\x01\x00\x02", []int{1, 0x20000, 0, 0}, []int{-2, -2, -2, -2}},
+		{"\x00\x0f\x42\x42\x00\x0f\x42\x43\xff\xff\xff\xff\x00\x01\x00\x00" + "\x00\x04\x05\xff",
+			[]int{1000002, 0, (1<<32 - 1) % 1000003, 65536}, []int{-2, 2, -2, -2}},
+		{strings.Repeat("\x00", 16) + "\x01\x02\x03\xfe" + "\x09\x09", []int{0, 0, 0, 0}, []int{-1, 0, 1, 2}},
+	} {
+		a, e := Pair(p, c.draws)
+		if !slices.Equal(a, c.a) || !slices.Equal(e, c.e) {
+			t.Errorf("Pair(%x) = %v, %v, want %v, %v", c.draws, a, e, c.a, c.e)
+		}
+	}
+}
