@@ -30,16 +30,11 @@ func Read(p api.Params, s string) (Cipher, bool) {
 	if !param.Fits(p, bound) {
 		return Cipher{}, false
 	}
-	middle := head + (len(s)-head)/2
-	c0, ok := text.Numbers(s[head:middle], 4, p.N, p.Q)
-	if !ok {
+	both, ok := text.Lists(s[head:], 4, p.N, 2, p.Q)
+	if !ok || len(both) != 2 {
 		return Cipher{}, false
 	}
-	c1, ok := text.Numbers(s[middle:], 4, p.N, p.Q)
-	if !ok {
-		return Cipher{}, false
-	}
-	return Cipher{Bound: bound, C0: c0, C1: c1}, true
+	return Cipher{Bound: bound, C0: both[0], C1: both[1]}, true
 }
 
 // Write is the text of a ciphertext.
@@ -53,7 +48,7 @@ func Write(c Cipher) string {
 // Encrypt hides values under the key s.
 func Encrypt(p api.Params, s []int, values []int, draws string) Cipher {
 	m := lift(p, values)
-	c0, c1 := hide(p, s, m, draws)
+	c0, c1 := hide(p, s, m, draws, 0)
 	return Cipher{Bound: api.Spread, C0: c0, C1: c1}
 }
 
@@ -110,13 +105,12 @@ func MulPlain(p api.Params, c Cipher, values []int) (Cipher, bool) {
 }
 
 // hide lays a drawn pair a, e over a polynomial x modulo Q: it gives
-// e + x - a s, and a.
-func hide(p api.Params, s []int, x []int, draws string) ([]int, []int) {
-	a, e := draw.Pair(p, draws)
+// e + x - a s, and a. Which of the draws' pairs it is, draw.Pair is told.
+func hide(p api.Params, s []int, x []int, draws string, which int) ([]int, []int) {
+	a, e := draw.Pair(p, draws, which)
 	as := ring.Mul(a, s, p.Q)
-	minus := ring.Scale(-1, as, p.Q)
 	c0 := ring.Add(e, x, p.Q)
-	c0 = ring.Add(c0, minus, p.Q)
+	c0 = ring.Sub(c0, as, p.Q)
 	return c0, a
 }
 

@@ -46,6 +46,7 @@ func TestNothingIsShared(t *testing.T) {
 		func(c Cipher) (Cipher, bool) { return Add(doc, c, c) },
 		func(c Cipher) (Cipher, bool) { return AddPlain(doc, c, values) },
 		func(c Cipher) (Cipher, bool) { return MulPlain(doc, c, values) },
+		func(c Cipher) (Cipher, bool) { return Turn(doc, c, nil) },
 	} {
 		c := some()
 		out, ok := call(c)

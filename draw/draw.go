@@ -12,18 +12,20 @@ func Byte(draws string, i int) int {
 	return int(draws[i])
 }
 
-// Pair gives the polynomials a and e of the drawn pair that the draws begin
-// with. The coefficients of a are below Q, those of e from -Spread to Spread.
-func Pair(p api.Params, draws string) ([]int, []int) {
+// Pair gives the polynomials a and e of a drawn pair; which is 0 for the one
+// that the draws begin with, 1 for the next one. The coefficients of a are
+// below Q, those of e from -Spread to Spread.
+func Pair(p api.Params, draws string, which int) ([]int, []int) {
 	if p.Q < 1 {
 		return nil, nil
 	}
+	start := 5 * p.N * which
 	var a []int
 	var e []int
 	for i := 0; i < p.N; i++ {
-		v := number(draws, 4*i, 4)
+		v := number(draws, start+4*i, 4)
 		a = append(a, v%p.Q)
-		b := Byte(draws, 4*p.N+i)
+		b := Byte(draws, start+4*p.N+i)
 		e = append(e, b%(2*api.Spread+1)-api.Spread)
 	}
 	return a, e

@@ -34,9 +34,29 @@ func TestPair(t *testing.T) {
 			[]int{1000002, 0, (1<<32 - 1) % 1000003, 65536}, []int{-2, 2, -2, -2}},
 		{strings.Repeat("\x00", 16) + "\x01\x02\x03\xfe" + "\x09\x09", []int{0, 0, 0, 0}, []int{-1, 0, 1, 2}},
 	} {
-		a, e := Pair(p, c.draws)
+		a, e := Pair(p, c.draws, 0)
 		if !slices.Equal(a, c.a) || !slices.Equal(e, c.e) {
 			t.Errorf("Pair(%x) = %v, %v, want %v, %v", c.draws, a, e, c.a, c.e)
+		}
+	}
+}
+
+// The next pairs begin 20 bytes and 40 bytes behind.
+func TestPairsBehind(t *testing.T) {
+	p := api.Params{N: 4, T: 17, Q: 1000003, B: 4}
+	draws := strings.Repeat("\xff", 20) + strings.Repeat("\x00\x00\x00\x07", 4) + "\x00\x01\x02\x03" + "\x00\x00\x01"
+	for _, c := range []struct {
+		which int
+		a, e  []int
+	}{
+		{1, []int{7, 7, 7, 7}, []int{-2, -1, 0, 1}},
+		{2, []int{256, 0, 0, 0}, []int{-2, -2, -2, -2}},
+		{3, []int{0, 0, 0, 0}, []int{-2, -2, -2, -2}},
+		{1 << 50, []int{0, 0, 0, 0}, []int{-2, -2, -2, -2}},
+	} {
+		a, e := Pair(p, draws, c.which)
+		if !slices.Equal(a, c.a) || !slices.Equal(e, c.e) {
+			t.Errorf("pair %d = %v, %v, want %v, %v", c.which, a, e, c.a, c.e)
 		}
 	}
 }

@@ -54,6 +54,21 @@ func mixedParams() []api.Params {
 	}
 }
 
+// netParams: parameters with room for turning and a matrix.
+func netParams() []api.Params {
+	return []api.Params{
+		doc,
+		{N: 4, T: 17, Q: 1<<30 - 35, B: 2},
+		{N: 4, T: 41, Q: 41<<24 + 40, B: 8},
+		{N: 8, T: 17, Q: 17 << 20, B: 3},
+		{N: 8, T: 17, Q: 1<<30 - 1, B: 1},
+		{N: 8, T: 97, Q: 1 << 30 / 2, B: 4},
+		{N: 16, T: 97, Q: 1<<30 - 1, B: 1},
+		{N: 16, T: 97, Q: 97<<23 + 1, B: 5},
+		{N: 16, T: 193, Q: 1 << 29, B: 2},
+	}
+}
+
 // greatest: the greatest bound that fits, by trying them down from Q.
 func greatest(p api.Params) int {
 	bound := p.Q/2/p.T + 1

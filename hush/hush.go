@@ -5,6 +5,7 @@ import (
 	"hush/api"
 	"hush/cipher"
 	"hush/keys"
+	"hush/layers"
 	"hush/param"
 	"hush/slot"
 )
@@ -138,14 +139,58 @@ func MulPlain(p api.Params, c string, values string) (string, api.Errno) {
 }
 
 // TurnKey makes a turning key (P9).
-func TurnKey(p api.Params, key string, draws string) (string, api.Errno) { return "", Check(p) }
+func TurnKey(p api.Params, key string, draws string) (string, api.Errno) {
+	if !param.Good(p) {
+		return "", api.ErrParam
+	}
+	s, ok := keys.Read(p.N, key)
+	if !ok {
+		return "", api.ErrForm
+	}
+	turn := cipher.TurnKey(p, s, draws)
+	return cipher.WriteTurnKey(turn), api.OK
+}
 
 // Turn turns the slots of a ciphertext (P9).
-func Turn(p api.Params, c string, turn string) (string, api.Errno) { return "", Check(p) }
+func Turn(p api.Params, c string, turn string) (string, api.Errno) {
+	if !param.Good(p) {
+		return "", api.ErrParam
+	}
+	hidden, ok := cipher.Read(p, c)
+	if !ok {
+		return "", api.ErrForm
+	}
+	pairs, ok := cipher.ReadTurnKey(p, turn)
+	if !ok {
+		return "", api.ErrForm
+	}
+	turned, fits := cipher.Turn(p, hidden, pairs)
+	return writeCipher(turned, fits)
+}
 
 // Linear works out the first part of a layer, hidden (P10).
 func Linear(p api.Params, layer string, c string, share string, mask string, turn string) (string, api.Errno) {
-	return "", Check(p)
+	if !param.Good(p) {
+		return "", api.ErrParam
+	}
+	l, ok := layers.Read(p, layer)
+	if !ok {
+		return "", api.ErrForm
+	}
+	hidden, shareSlots, errno := readBoth(p, c, share)
+	if errno != api.OK {
+		return "", errno
+	}
+	maskSlots, ok := readValues(p, mask)
+	if !ok {
+		return "", api.ErrValue
+	}
+	pairs, ok := cipher.ReadTurnKey(p, turn)
+	if !ok {
+		return "", api.ErrForm
+	}
+	answer, fits := layers.Linear(p, l, hidden, shareSlots, maskSlots, pairs)
+	return writeCipher(answer, fits)
 }
 
 // Bend works out the second part of a layer, on shares (P11).

@@ -64,20 +64,91 @@ func encoded(t *testing.T, p api.Params, values []int) []int {
 	return read(poly, 2)
 }
 
-// slowEncrypt: c1 = a, c0 = e + DELTA m - a s.
-func slowEncrypt(p api.Params, key string, m []int, draws string) string {
-	draws += string(make([]byte, 5*p.N))
+// slowHide: e + x - a s, and a, of the drawn pair ahead of which there are
+// others.
+func slowHide(p api.Params, key string, x []*big.Int, draws string, others int) []int {
+	draws += string(make([]byte, 5*p.N*(others+1)))
+	draws = draws[5*p.N*others:]
 	a := read(draws[:4*p.N], 4)
 	for i := range a {
 		a[i] %= p.Q
 	}
 	as := slowTimes(a, slowKey(key))
-	c0 := make([]int, p.N)
-	for i := range c0 {
-		v := big.NewInt(int64(draws[4*p.N+i]%5) - 2 + int64(p.Q/p.T*m[i]))
-		c0[i] = slowModulo(v.Sub(v, as[i]), p.Q)
+	c := make([]int, p.N)
+	for i := range c {
+		v := big.NewInt(int64(draws[4*p.N+i]%5) - 2)
+		v.Add(v, x[i])
+		c[i] = slowModulo(v.Sub(v, as[i]), p.Q)
 	}
-	return hidden(2, append(c0, a...)...)
+	return append(c, a...)
+}
+
+// slowEncrypt: c1 = a, c0 = e + DELTA m - a s.
+func slowEncrypt(p api.Params, key string, m []int, draws string) string {
+	var x []*big.Int
+	for _, v := range m {
+		x = append(x, big.NewInt(int64(p.Q/p.T*v)))
+	}
+	return hidden(2, slowHide(p, key, x, draws, 0)...)
+}
+
+// slowDigits: the least L with 2^(B times L) at least Q.
+func slowDigits(p api.Params) int {
+	l := 0
+	for new(big.Int).Lsh(big.NewInt(1), uint(p.B*l)).Cmp(big.NewInt(int64(p.Q))) < 0 {
+		l++
+	}
+	return l
+}
+
+// slowCubed: with x^3 in the place of x, then x^N laid down to -1, once for
+// each N that the exponent has.
+func slowCubed(a []int) []int {
+	out := make([]int, len(a))
+	for i, v := range a {
+		if 3*i/len(a)%2 == 1 {
+			v = -v
+		}
+		out[3*i%len(a)] += v
+	}
+	return out
+}
+
+// slowTurnKey: k1 = a, k0 = e + 2^(B i) s' - a s for each digit.
+func slowTurnKey(p api.Params, key string, draws string) string {
+	s := "R"
+	for i := range slowDigits(p) {
+		var x []*big.Int
+		for _, v := range slowCubed(slowKey(key)) {
+			x = append(x, new(big.Int).Lsh(big.NewInt(int64(v)), uint(p.B*i)))
+		}
+		s += long(slowHide(p, key, x, draws, i)...)
+	}
+	return s
+}
+
+// slowTurn: c0' and the sum of all d_i times k0, the sum of all d_i times k1.
+func slowTurn(p api.Params, c []int, turn []int) []int {
+	var sums []*big.Int
+	for _, v := range append(slowCubed(c[:p.N]), make([]int, p.N)...) {
+		sums = append(sums, big.NewInt(int64(v)))
+	}
+	for i := range slowDigits(p) {
+		var digits []int
+		for _, v := range slowCubed(c[p.N:]) {
+			digits = append(digits, slowModulo(big.NewInt(int64(v)), p.Q)>>(p.B*i)%(1<<p.B))
+		}
+		pair := turn[2*p.N*i:]
+		k0, k1 := slowTimes(digits, pair[:p.N]), slowTimes(digits, pair[p.N:2*p.N])
+		for j, v := range append(k0, k1...) {
+			sums[j].Add(sums[j], v)
+		}
+	}
+	var out []int
+	for _, v := range sums {
+		out = append(out, slowModulo(v, p.Q))
+	}
+	return out
 }
 
 // slowDecrypt: the slots of (2 T v + Q) over 2Q, with v = c0 + c1 s.
@@ -117,10 +188,15 @@ func someKey(r *rand.Rand, p api.Params) string {
 	return string(key)
 }
 
-// someDraws: any bytes, often too few or more than enough.
+// someDraws: any bytes for one pair, often too few or more than enough.
 func someDraws(r *rand.Rand, p api.Params) string {
+	return drawsFor(r, p, 1)
+}
+
+// drawsFor: any bytes for some pairs, often too few or more than enough.
+func drawsFor(r *rand.Rand, p api.Params, pairs int) string {
 	var draws []byte
-	for _, v := range below(r, r.Intn(7*p.N), 256) {
+	for _, v := range below(r, r.Intn(7*p.N*pairs), 256) {
 		draws = append(draws, byte(v))
 	}
 	return string(draws)

@@ -47,6 +47,28 @@ func Delta(p api.Params) int {
 	return p.Q / p.T
 }
 
+// Base is 2^B: a digit is below it.
+func Base(p api.Params) int {
+	if p.B < 1 || p.B > api.MaxB {
+		return 0
+	}
+	return 1 << p.B
+}
+
+// Digits is L, how many digits the coefficients below Q have: as many as the
+// greatest of them.
+func Digits(p api.Params) int {
+	base := Base(p)
+	if base < 2 {
+		return 0
+	}
+	count := 0
+	for v := p.Q - 1; v > 0; v /= base {
+		count++
+	}
+	return count
+}
+
 // isPrime compares d with n/d, as d*d could overflow.
 func isPrime(n int) bool {
 	if n < 2 {

@@ -53,3 +53,17 @@ func TestRestAndDelta(t *testing.T) {
 		}
 	}
 }
+
+func TestBaseAndDigits(t *testing.T) {
+	for _, c := range []struct{ q, b, base, digits int }{
+		{1000003, 4, 16, 5}, {1 << 20, 4, 16, 5}, {1<<20 + 1, 4, 16, 6}, {1<<20 - 1, 4, 16, 5},
+		{1000003, 1, 2, 20}, {1000003, 8, 256, 3}, {1<<30 - 1, 1, 2, 30}, {1<<30 - 1, 7, 128, 5},
+		{2, 1, 2, 1}, {3, 1, 2, 2}, {1, 4, 16, 0}, {0, 4, 16, 0}, {-5, 4, 16, 0}, {1<<63 - 1, 1, 2, 63},
+		{1000003, 0, 0, 0}, {1000003, -1, 0, 0}, {1000003, 9, 0, 0}, {1000003, 1<<63 - 1, 0, 0}, {1000003, -1 << 63, 0, 0},
+	} {
+		p := api.Params{N: 4, T: 17, Q: c.q, B: c.b}
+		if base, digits := Base(p), Digits(p); base != c.base || digits != c.digits {
+			t.Errorf("Q %d, B %d: %d, %d, want %d, %d", c.q, c.b, base, digits, c.base, c.digits)
+		}
+	}
+}

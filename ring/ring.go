@@ -16,6 +16,12 @@ func Add(a []int, b []int, q int) []int {
 	return sum
 }
 
+// Sub is a polynomial less another one.
+func Sub(a []int, b []int, q int) []int {
+	minus := Scale(-1, b, q)
+	return Add(a, minus, q)
+}
+
 // Scale is a polynomial times a number.
 func Scale(k int, a []int, q int) []int {
 	var out []int
@@ -43,6 +49,22 @@ func Mul(a []int, b []int, q int) []int {
 			}
 			out[k] = modulo(out[k]+term, q)
 		}
+	}
+	return out
+}
+
+// Turn is a polynomial with x^3 in the place of x.
+func Turn(a []int, q int) []int {
+	n := len(a)
+	out := make([]int, n)
+	for i, v := range a {
+		k := 3 * i
+		// x^N is -1.
+		for k >= n {
+			k -= n
+			v = -v
+		}
+		out[k] = modulo(out[k]+v, q)
 	}
 	return out
 }

@@ -19,6 +19,12 @@ func TestAdd(t *testing.T) {
 	want(t, "Add of two lengths", Add([]int{1}, []int{1, 2}, 7))
 }
 
+func TestSub(t *testing.T) {
+	want(t, "Sub", Sub([]int{1, 6, -1, 0}, []int{2, 6, -3, 1}, 7), 6, 0, 2, 6)
+	want(t, "Sub of two lengths", Sub([]int{1, 2}, []int{1}, 7))
+	want(t, "Sub of two lengths", Sub([]int{1}, []int{1, 2}, 7))
+}
+
 func TestScale(t *testing.T) {
 	want(t, "Scale", Scale(3, []int{1, 6, -1, 0}, 7), 3, 4, 4, 0)
 	want(t, "Scale", Scale(-1, []int{1, 6, 0, -2}, 7), 6, 1, 0, 2)
@@ -51,6 +57,16 @@ func TestMulOfGreatNumbers(t *testing.T) {
 	}
 }
 
+// x^3 is x^3, x^6 is -x^2, x^9 is x; of eight, x^9 is -x, x^12 is -x^4, x^15
+// is -x^7, x^18 is x^2, x^21 is x^5.
+func TestTurn(t *testing.T) {
+	want(t, "Turn", Turn([]int{1, 2, 3, 4}, 7), 1, 4, 4, 2)
+	want(t, "Turn", Turn([]int{-1, 0, 0, -6}, 7), 6, 1, 0, 0)
+	want(t, "Turn", Turn([]int{1, 2, 3, 4, 5, 6, 7, 8}, 100), 1, 96, 7, 2, 95, 8, 3, 94)
+	want(t, "Turn of three", Turn([]int{1, 2, 3}, 7), 2, 0, 0)
+	want(t, "Turn of none", Turn(nil, 7))
+}
+
 func TestCentre(t *testing.T) {
 	for v, want := range []int{0, 1, 2, 3, 4, 5, 6, 7, 8, -8, -7, -6, -5, -4, -3, -2, -1} {
 		if c := Centre(v, 17); c != want {
@@ -64,6 +80,8 @@ func TestListsAreNotChanged(t *testing.T) {
 	Add(a, b, 7)
 	Scale(3, a, 7)
 	Mul(a, b, 7)
+	Sub(a, b, 7)
+	Turn(b, 7)
 	want(t, "a", a, 1, 2, 3, 4)
 	want(t, "b", b, -5, 6, -7, 8)
 }

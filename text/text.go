@@ -19,6 +19,24 @@ func Numbers(s string, width int, count int, limit int) ([]int, bool) {
 	return list, true
 }
 
+// Lists reads a text of just count lists, one behind the other, each of which
+// Numbers reads as size numbers; it answers false if the text is anything else.
+func Lists(s string, width int, size int, count int, limit int) ([][]int, bool) {
+	step := width * size
+	if step < 1 || len(s)%step != 0 || len(s)/step != count {
+		return nil, false
+	}
+	var lists [][]int
+	for i := 0; i <= len(s)-step; i += step {
+		list, ok := Numbers(s[i:i+step], width, size, limit)
+		if !ok {
+			return nil, false
+		}
+		lists = append(lists, list)
+	}
+	return lists, true
+}
+
 // Number is what the bytes of a text are as one number, that of the greatest
 // weight first. The texts that are handed in are short enough for an int.
 func Number(s string) int {

@@ -67,3 +67,44 @@ func TestWrite(t *testing.T) {
 		}
 	}
 }
+
+func TestLists(t *testing.T) {
+	for _, c := range []struct {
+		s                         string
+		width, size, count, limit int
+		lists                     [][]int
+		ok                        bool
+	}{
+		{"\x01\x02\x03\x04\x05\x06", 1, 3, 2, 7, [][]int{{1, 2, 3}, {4, 5, 6}}, true},
+		{"\x01\x02\x03\x04\x05\x06", 1, 2, 3, 7, [][]int{{1, 2}, {3, 4}, {5, 6}}, true},
+		{"\x01\x02", 1, 1, 2, 7, [][]int{{1}, {2}}, true},
+		{"\x01\x02\x03\x04\x05\x06", 2, 3, 1, 65536, [][]int{{0x102, 0x304, 0x506}}, true},
+		{"\x01\x02\x03\x04\x05\x06", 1, 3, 2, 6, nil, false},
+		{"\x06\x02\x03\x04\x05\x01", 1, 3, 2, 6, nil, false},
+		{"\x01\x02\x03\x04\x05\x06", 1, 3, 1, 7, nil, false},
+		{"\x01\x02\x03\x04\x05\x06", 1, 3, 3, 7, nil, false},
+		{"\x01\x02\x03\x04\x05", 1, 3, 1, 7, nil, false},
+		{"\x01\x02\x03\x04\x05", 1, 3, 2, 7, nil, false},
+		{"", 1, 3, 0, 7, nil, true},
+		{"", 1, 3, 1, 7, nil, false},
+		{"", 1, 0, 0, 7, nil, false},
+		{"\x01", 0, 1, 1, 7, nil, false},
+		{"\x01", 1, -1, -1, 7, nil, false},
+		{"\x01", -1, -1, 1, 7, nil, false},
+	} {
+		lists, ok := Lists(c.s, c.width, c.size, c.count, c.limit)
+		if !slices.EqualFunc(lists, c.lists, slices.Equal[[]int]) || ok != c.ok {
+			t.Errorf("Lists(%x, %d, %d, %d, %d) = %v, %v", c.s, c.width, c.size, c.count, c.limit, lists, ok)
+		}
+	}
+}
+
+// To make one list longer leaves the next one as it is.
+func TestListsShareNothing(t *testing.T) {
+	lists, _ := Lists("\x01\x02\x03\x04", 1, 2, 2, 7)
+	longer := append(lists[0], 5)
+	longer[0] = 6
+	if !slices.Equal(lists[1], []int{3, 4}) {
+		t.Errorf("the second list is now %v", lists[1])
+	}
+}
