@@ -31,6 +31,19 @@ func Pair(p api.Params, draws string, which int) ([]int, []int) {
 	return a, e
 }
 
+// Mask gives the numbers below T of a drawn mask.
+func Mask(p api.Params, draws string) []int {
+	if p.T < 1 {
+		return nil
+	}
+	var mask []int
+	for i := 0; i < p.N; i++ {
+		v := number(draws, 2*i, 2)
+		mask = append(mask, v%p.T)
+	}
+	return mask
+}
+
 // number is the one that width bytes of the draws make, beginning at a place.
 func number(draws string, place int, width int) int {
 	v := 0

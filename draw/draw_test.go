@@ -60,3 +60,26 @@ func TestPairsBehind(t *testing.T) {
 		}
 	}
 }
+
+// Modulo T alone: Q has no part in a mask.
+func TestMask(t *testing.T) {
+	p := api.Params{N: 4, T: 17, Q: 400, B: 4}
+	for _, c := range []struct {
+		draws string
+		mask  []int
+	}{
+		{"", []int{0, 0, 0, 0}},
+		{"\x00\x01\x00\x10\x00\x11\x00\x12", []int{1, 16, 0, 1}},
+		{"\xff\xff\xff\xfe\x01\x00\x01\x01", []int{0, 16, 1, 2}},
+		// The draws end inside of a number: a nought is its last byte.
+		{"\x00\x05\x01", []int{5, 1, 0, 0}},
+		{"\x00\x05\x00\x06\x00\x07\x00\x08\x00\x09", []int{5, 6, 7, 8}},
+	} {
+		if mask := Mask(p, c.draws); !slices.Equal(mask, c.mask) {
+			t.Errorf("Mask(%x) = %v, want %v", c.draws, mask, c.mask)
+		}
+	}
+	if mask := Mask(api.Params{N: 4}, "draws"); mask != nil {
+		t.Errorf("Mask modulo 0 = %v", mask)
+	}
+}

@@ -10,9 +10,6 @@ import (
 	"hush/slot"
 )
 
-// Session is a net that two parties work out together.
-type Session struct{}
-
 // Check tells whether parameters are good (P2).
 func Check(p api.Params) api.Errno {
 	if !param.Good(p) {
@@ -195,22 +192,42 @@ func Linear(p api.Params, layer string, c string, share string, mask string, tur
 
 // Bend works out the second part of a layer, on shares (P11).
 func Bend(p api.Params, layer string, a string, b string, mask string) (string, api.Errno) {
-	return "", Check(p)
+	if !param.Good(p) {
+		return "", api.ErrParam
+	}
+	l, ok := layers.Read(p, layer)
+	if !ok {
+		return "", api.ErrForm
+	}
+	first, ok := readValues(p, a)
+	if !ok {
+		return "", api.ErrValue
+	}
+	second, ok := readValues(p, b)
+	if !ok {
+		return "", api.ErrValue
+	}
+	maskSlots, ok := readValues(p, mask)
+	if !ok {
+		return "", api.ErrValue
+	}
+	bent := layers.Bend(p, l, first, second, maskSlots)
+	return writeValues(bent), api.OK
 }
 
 // Plain works out a net in the open (P12).
-func Plain(p api.Params, net string, input string) (string, api.Errno) { return "", Check(p) }
-
-// New begins a session (P13).
-func New(p api.Params, net string, key string, turn string, input string) (*Session, api.Errno) {
-	return nil, Check(p)
+func Plain(p api.Params, net string, input string) (string, api.Errno) {
+	if !param.Good(p) {
+		return "", api.ErrParam
+	}
+	all, ok := layers.ReadNet(p, net)
+	if !ok {
+		return "", api.ErrForm
+	}
+	slots, ok := readValues(p, input)
+	if !ok {
+		return "", api.ErrValue
+	}
+	values := layers.Plain(p, all, slots)
+	return writeValues(values), api.OK
 }
-
-// Step takes the next step of a session (P14).
-func (x *Session) Step(draws string) (string, api.Errno) { return "", api.OK }
-
-// Shares tells both shares, the client's first (P13).
-func (x *Session) Shares() (string, string) { return "", "" }
-
-// Output tells what has come out (P13).
-func (x *Session) Output() (string, api.Errno) { return "", api.OK }

@@ -1,5 +1,5 @@
-// Package layers works out the layers of a net. The parameters it is handed are
-// good, shares and masks of N numbers below T.
+// Package layers works out the layers of a net, and nets. The parameters it is
+// handed are good, shares, masks and inputs of N numbers below T.
 package layers
 
 import (
@@ -49,10 +49,39 @@ func Linear(p api.Params, l Layer, c cipher.Cipher, share []int, mask []int, tur
 	if !ok {
 		return cipher.Cipher{}, false
 	}
-	values := times(l.Matrix, share, p.T)
-	values = ring.Add(values, l.Bias, p.T)
+	values := weighed(p, l, share)
 	values = ring.Sub(values, mask, p.T)
 	return cipher.AddPlain(p, hidden, values)
+}
+
+// Bend gives what a layer makes of both shares together, less the mask: the
+// client's next share, with the mask as the server's.
+func Bend(p api.Params, l Layer, a []int, b []int, mask []int) []int {
+	sum := ring.Add(a, b, p.T)
+	var bent []int
+	for _, v := range sum {
+		centred := ring.Centre(v, p.T)
+		bent = append(bent, bendNumber(l, centred))
+	}
+	return ring.Sub(bent, mask, p.T)
+}
+
+// bendNumber is what a layer makes of one number, centred.
+func bendNumber(l Layer, v int) int {
+	if l.Shift < 0 {
+		return 0
+	}
+	if l.Bends && v < 0 {
+		return 0
+	}
+	// A division would go towards 0, not down, for numbers below 0.
+	return v >> l.Shift
+}
+
+// weighed is the matrix times each row of some values, and the bias.
+func weighed(p api.Params, l Layer, values []int) []int {
+	product := times(l.Matrix, values, p.T)
+	return ring.Add(product, l.Bias, p.T)
 }
 
 // hiddenTimes is the matrix times the rows that a ciphertext hides. Turned i
